@@ -1,0 +1,25 @@
+// Package triskel: points in the plane, joined to triangles as round as can be: see DOC.md.
+package triskel
+
+import (
+	"triskel/api"
+	"triskel/hull"
+	"triskel/plane"
+)
+
+// Hull gives the corners of the hull (P3).
+func Hull(points []api.Point) ([]int, api.Errno) {
+	if e := refusal(points); e != api.OK {
+		return nil, e
+	}
+	return hull.Corners(plane.Places(points)), api.OK
+}
+
+// Triangles joins points to triangles (P4).
+func Triangles(points []api.Point) ([]api.Triangle, api.Errno) { return nil, api.OK }
+
+// Bound joins points to triangles that have lines among their sides (P5).
+func Bound(points []api.Point, lines []api.Line) ([]api.Triangle, api.Errno) { return nil, api.OK }
+
+// Locate finds the triangle in which a point lies (P6).
+func Locate(points []api.Point, triangles []api.Triangle, p api.Point) int { return 0 }
