@@ -2,7 +2,6 @@
 package hull
 
 import (
-	"cmp"
 	"slices"
 
 	"triskel/plane"
@@ -11,25 +10,12 @@ import (
 // Corners gives the numbers of the hull's corners: the one with the least real part first (of these that with the least
 // imaginary part), then as they follow to the left. The places must be different ones and not all on one line.
 func Corners(places []complex128) []int {
-	order := rightward(places)
+	order := plane.Rightward(places)
 	below := leftTurns(places, order)
 	slices.Reverse(order)
 	above := leftTurns(places, order)
 	// Each walk ends where the other one begins: its last place is left to the other.
 	return slices.Concat(below[:len(below)-1], above[:len(above)-1])
-}
-
-// rightward gives the numbers of all places, by rising real part, then by rising imaginary part.
-func rightward(places []complex128) []int {
-	order := make([]int, len(places))
-	for i := range order {
-		order[i] = i
-	}
-	slices.SortFunc(order, func(i, j int) int {
-		p, q := places[i], places[j]
-		return cmp.Or(cmp.Compare(real(p), real(q)), cmp.Compare(imag(p), imag(q)))
-	})
-	return order
 }
 
 // leftTurns walks along places in an order and leaves out all at which the walk would not turn left.

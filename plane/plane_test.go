@@ -2,6 +2,7 @@ package plane
 
 import (
 	"math"
+	"slices"
 	"testing"
 
 	"triskel/api"
@@ -12,14 +13,19 @@ func wholeTurn(a, b, c api.Point) int {
 	return (b.X-a.X)*(c.Y-a.Y) - (b.Y-a.Y)*(c.X-a.X)
 }
 
-func TestTurnIsTheDocumentsTurn(t *testing.T) {
+// grid: all points of which both numbers are among these.
+func grid(numbers ...int) []api.Point {
 	var points []api.Point
-	numbers := []int{-1000, -999, -1, 0, 1, 998, 1000}
 	for _, x := range numbers {
 		for _, y := range numbers {
 			points = append(points, api.Point{X: x, Y: y})
 		}
 	}
+	return points
+}
+
+func TestTurnIsTheDocumentsTurn(t *testing.T) {
+	points := grid(-1000, -999, -1, 0, 1, 998, 1000)
 	for _, a := range points {
 		for _, b := range points {
 			for _, c := range points {
@@ -29,6 +35,68 @@ func TestTurnIsTheDocumentsTurn(t *testing.T) {
 				}
 			}
 		}
+	}
+}
+
+// wholeCircle: the document's words for a circle, in whole numbers: above 0, if d lies within.
+func wholeCircle(a, b, c, d api.Point) int {
+	x := [3]int{a.X - d.X, b.X - d.X, c.X - d.X}
+	y := [3]int{a.Y - d.Y, b.Y - d.Y, c.Y - d.Y}
+	var z [3]int
+	for i := range z {
+		z[i] = x[i]*x[i] + y[i]*y[i]
+	}
+	return x[0]*(y[1]*z[2]-z[1]*y[2]) - y[0]*(x[1]*z[2]-z[1]*x[2]) + z[0]*(x[1]*y[2]-y[1]*x[2])
+}
+
+func TestWithinIsTheDocumentsWithin(t *testing.T) {
+	points := grid(-1000, -999, 0, 3, 1000)
+	for _, a := range points {
+		for _, b := range points {
+			for _, c := range points {
+				if wholeTurn(a, b, c) > 0 {
+					for _, d := range points {
+						wantWithin(t, a, b, c, d, wholeCircle(a, b, c, d) > 0)
+					}
+				}
+			}
+		}
+	}
+}
+
+func TestWithin(t *testing.T) {
+	a, b, c := api.Point{X: 0, Y: 0}, api.Point{X: 4, Y: 0}, api.Point{X: 0, Y: 4}
+	for _, d := range []api.Point{{X: 1, Y: 1}, {X: 2, Y: 2}, {X: 3, Y: 3}, {X: 4, Y: 1}, {X: 0, Y: 2}} {
+		wantWithin(t, a, b, c, d, true)
+	}
+	// On the circle is not within it.
+	for _, d := range []api.Point{a, b, c, {X: 4, Y: 4}, {X: 5, Y: 0}, {X: -1, Y: 2}, {X: 900, Y: 900}} {
+		wantWithin(t, a, b, c, d, false)
+	}
+	// So near to the circle that the sum is 840, or -360, while its parts have 14 digits.
+	a, b, c = api.Point{X: 959, Y: 988}, api.Point{X: -926, Y: 987}, api.Point{X: 960, Y: -909}
+	wantWithin(t, a, b, c, api.Point{X: 966, Y: 981}, true)
+	wantWithin(t, a, b, c, api.Point{X: -928, Y: -907}, false)
+}
+
+func wantWithin(t *testing.T, a, b, c, d api.Point, want bool) {
+	t.Helper()
+	if got := Within(Place(a), Place(b), Place(c), Place(d)); got != want {
+		t.Errorf("Within(%v, %v, %v, %v) = %v", a, b, c, d, got)
+	}
+}
+
+func TestRightward(t *testing.T) {
+	places := []complex128{2, 1 + 1i, -1000i, 1 - 1i, -3 + 5i, 1}
+	own := slices.Clone(places)
+	if got := Rightward(places); !slices.Equal(got, []int{4, 2, 3, 5, 1, 0}) {
+		t.Errorf("Rightward(%v) = %v", own, got)
+	}
+	if !slices.Equal(places, own) {
+		t.Errorf("Rightward(%v) wrote into its places: %v", own, places)
+	}
+	if got := Rightward(nil); len(got) != 0 {
+		t.Errorf("Rightward(nil) = %v", got)
 	}
 }
 

@@ -7,9 +7,14 @@ import (
 	"triskel/api"
 )
 
-// P1: no numbers and no list make Hull panic or go on for ever.
+// farNumbers: none of them a point's place, all of them outside of bounds.
+func farNumbers() []int {
+	return []int{math.MinInt, math.MinInt + 1, math.MinInt / 2, -1 << 32, math.MinInt32, -1001, 1001, math.MaxInt32, 1 << 32, 1<<32 + 1, 1 << 53, math.MaxInt / 2, math.MaxInt}
+}
+
+// P1: no numbers and no list make Hull or Triangles panic or go on for ever (wantErrno asks both).
 func TestP1AnyNumbers(t *testing.T) {
-	far := []int{math.MinInt, math.MinInt + 1, math.MinInt / 2, -1 << 32, math.MinInt32, -1001, 1001, math.MaxInt32, 1 << 32, 1<<32 + 1, 1 << 53, math.MaxInt / 2, math.MaxInt}
+	far := farNumbers()
 	for _, n := range far {
 		for at := range 8 {
 			numbers := []int{0, 0, 5, 0, 5, 5, 0, 5}

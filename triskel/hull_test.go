@@ -63,29 +63,18 @@ func TestP3AllAreCorners(t *testing.T) {
 
 // Every choice of points of a small grid, against the document's word for a corner.
 func TestP3EveryChoiceOfAGrid(t *testing.T) {
-	for choice := range 1 << 12 {
-		var list []api.Point
-		for i := range 12 {
-			// Seven steps through twelve places reach each once, so that the list isn't in the order of the grid.
-			if at := i * 7 % 12; choice>>at&1 == 1 {
-				list = append(list, api.Point{X: at % 4, Y: at / 4})
-			}
-		}
-		if len(list) >= 3 {
-			checkHull(t, list)
-		}
+	for list := range gridChoices() {
+		checkHull(t, list)
 	}
 }
 
 func TestP3Scattered(t *testing.T) {
-	d := dice(1)
-	for _, reach := range []int{3, 4, 10, 100, api.MaxPlace} {
-		for count := 3; count <= api.MaxPoints; count++ {
-			checkHull(t, d.scatter(count, reach))
-		}
+	for list := range scattered(1) {
+		checkHull(t, list)
 	}
 }
 
+// Triangles has the errors of Hull (P4), so wantErrno holds both against these.
 func TestP3Refusals(t *testing.T) {
 	d := dice(2)
 	for _, c := range []struct {
@@ -125,17 +114,6 @@ func wantHull(t *testing.T, list []api.Point, want []int) {
 	t.Helper()
 	if got, e := triskel.Hull(list); !slices.Equal(got, want) || e != api.OK {
 		t.Errorf("Hull(%v) = %v, %d, want %v", list, got, e, want)
-	}
-}
-
-func wantErrno(t *testing.T, list []api.Point, want api.Errno) {
-	t.Helper()
-	got, e := triskel.Hull(list)
-	if e != want {
-		t.Errorf("Hull of %d points %v: error %d, want %d", len(list), list[:min(len(list), 9)], e, want)
-	}
-	if want != api.OK && len(got) > 0 {
-		t.Errorf("Hull answers %v with the error %d", got, e)
 	}
 }
 

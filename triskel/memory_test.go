@@ -11,7 +11,7 @@ import (
 	"triskel/triskel"
 )
 
-// samples: lists that Hull takes, and one for each of its refusals.
+// samples: lists that are taken, and one for each refusal of Hull's.
 func samples() [][]api.Point {
 	d := dice(3)
 	lists := [][]api.Point{points(0, 0, 1, 0), points(0, 0, 0, 2000, 1, 1), points(0, 0, 1, 2, 0, 0), points(0, 0, 1, 2, 2, 4)}
@@ -22,37 +22,70 @@ func samples() [][]api.Point {
 }
 
 // answers: copies, so that a later call can't change them.
-func answers(lists [][]api.Point) [][]int {
-	var out [][]int
+func answers[E any](call func([]api.Point) ([]E, api.Errno), lists [][]api.Point) [][]E {
+	var out [][]E
 	for _, list := range lists {
-		h, _ := triskel.Hull(list)
-		out = append(out, slices.Clone(h))
+		a, _ := call(list)
+		out = append(out, slices.Clone(a))
 	}
 	return out
 }
 
+// located: Locate as a call that has points alone: it asks where each point lies among triangles over all of them, one
+// of which is to be left out.
+func located(list []api.Point) ([]int, api.Errno) {
+	triangles := trianglesOver(list)
+	var out []int
+	for _, p := range list {
+		out = append(out, triskel.Locate(list, triangles, p))
+	}
+	return out, api.OK
+}
+
+func trianglesOver(list []api.Point) []api.Triangle {
+	triangles := threes(0, 1, len(list))
+	for i := range list {
+		triangles = append(triangles, threes(i, (i+1)%len(list), (i+2)%len(list))...)
+	}
+	return triangles
+}
+
 func TestP2SameAnswerEachTime(t *testing.T) {
+	t.Run("Hull", func(t *testing.T) { checkSameEachTime(t, triskel.Hull) })
+	t.Run("Triangles", func(t *testing.T) { checkSameEachTime(t, triskel.Triangles) })
+	t.Run("Locate", func(t *testing.T) { checkSameEachTime(t, located) })
+}
+
+func checkSameEachTime[E comparable](t *testing.T, call func([]api.Point) ([]E, api.Errno)) {
 	lists := samples()
-	first := answers(lists)
-	for i, list := range slices.Backward(lists) {
-		// Another list's memory, and more room behind it, must not be seen in the answer.
-		h, _ := triskel.Hull(append(make([]api.Point, 0, 100), list...))
-		if !slices.Equal(h, first[i]) {
-			t.Errorf("Hull(%v) = %v, and %v before", list, h, first[i])
+	first := answers(call, lists)
+	for range 5 {
+		for i, list := range slices.Backward(lists) {
+			// Another list's memory, and more room behind it, must not be seen in the answer.
+			a, _ := call(append(make([]api.Point, 0, 100), list...))
+			if !slices.Equal(a, first[i]) {
+				t.Fatalf("of %v: %v, and %v before", list, a, first[i])
+			}
 		}
 	}
 }
 
 func TestP2SameAnswerSideBySide(t *testing.T) {
+	t.Run("Hull", func(t *testing.T) { checkSideBySide(t, triskel.Hull) })
+	t.Run("Triangles", func(t *testing.T) { checkSideBySide(t, triskel.Triangles) })
+	t.Run("Locate", func(t *testing.T) { checkSideBySide(t, located) })
+}
+
+func checkSideBySide[E comparable](t *testing.T, call func([]api.Point) ([]E, api.Errno)) {
 	lists := samples()
-	alone := answers(lists)
+	alone := answers(call, lists)
 	var all sync.WaitGroup
 	for start := range 8 {
 		all.Go(func() {
 			for i := range lists {
 				at := (i + start*5) % len(lists)
-				if h, _ := triskel.Hull(lists[at]); !slices.Equal(h, alone[at]) {
-					t.Errorf("Hull(%v) = %v, and %v alone", lists[at], h, alone[at])
+				if a, _ := call(lists[at]); !slices.Equal(a, alone[at]) {
+					t.Errorf("of %v: %v, and %v alone", lists[at], a, alone[at])
 				}
 			}
 		})
@@ -60,64 +93,81 @@ func TestP2SameAnswerSideBySide(t *testing.T) {
 	all.Wait()
 }
 
+// What is handed in is a piece of more: neither what lies before it nor what lies behind it is the program's.
 func TestP2NothingIsWrittenInto(t *testing.T) {
 	for _, list := range samples() {
-		// The points handed in are a piece of more: neither what lies before it nor what lies behind it is Hull's.
 		whole := slices.Concat(points(901, 902), list, points(903, 904, 905, 906))
-		own := slices.Clone(whole)
-		triskel.Hull(whole[1 : 1+len(list)])
-		if !slices.Equal(whole, own) {
-			t.Errorf("Hull wrote into %v: %v", own, whole)
+		piece := whole[1 : 1+len(list)]
+		triangles := slices.Concat(threes(7, 8, 9), trianglesOver(list), threes(4, 5, 6))
+		ownPoints, ownTriangles := slices.Clone(whole), slices.Clone(triangles)
+		triskel.Hull(piece)
+		triskel.Triangles(piece)
+		for _, p := range list {
+			triskel.Locate(piece, triangles[1:len(triangles)-1], p)
+		}
+		if !slices.Equal(whole, ownPoints) {
+			t.Errorf("points written into: %v became %v", ownPoints, whole)
+		}
+		if !slices.Equal(triangles, ownTriangles) {
+			t.Errorf("triangles written into: %v became %v", ownTriangles, triangles)
 		}
 	}
 }
 
 // What is written into an answer, its spare room too, or into the points handed in, is seen nowhere else.
 func TestP2AnswersAreNewMemory(t *testing.T) {
+	t.Run("Hull", func(t *testing.T) { checkNewMemory(t, triskel.Hull, -7) })
+	t.Run("Triangles", func(t *testing.T) { checkNewMemory(t, triskel.Triangles, api.Triangle{A: -7, B: -8, C: -9}) })
+}
+
+func checkNewMemory[E comparable](t *testing.T, call func([]api.Point) ([]E, api.Errno), other E) {
 	for _, list := range samples() {
-		want, _ := triskel.Hull(slices.Clone(list))
+		want, _ := call(slices.Clone(list))
 		own := slices.Clone(want)
-		again, _ := triskel.Hull(list)
-		overwrite(again[:cap(again)])
+		again, _ := call(list)
+		overwrite(again[:cap(again)], other)
 		if !slices.Equal(want, own) {
 			t.Fatalf("two answers share memory: %v became %v", own, want)
 		}
 		spare := slices.Clone(want[:cap(want)])
-		if third, _ := triskel.Hull(list); !slices.Equal(third, own) {
-			t.Fatalf("Hull(%v) = %v, and %v before its answer was written into", list, third, own)
+		if third, _ := call(list); !slices.Equal(third, own) {
+			t.Fatalf("of %v: %v, and %v before an answer was written into", list, third, own)
 		}
 		clear(list)
-		triskel.Hull(points(7, 7, 8, 9, 9, 7, 8, 8))
+		call(points(7, 7, 8, 9, 9, 7, 8, 8))
 		if !slices.Equal(want[:cap(want)], spare) {
 			t.Fatalf("a later call, or a change of the points, changed an answer: %v to %v", spare, want[:cap(want)])
 		}
 	}
 }
 
-func overwrite(numbers []int) {
-	for i := range numbers {
-		numbers[i] = -7
+func overwrite[E any](list []E, other E) {
+	for i := range list {
+		list[i] = other
 	}
 }
 
-// Points that nobody else holds are given free, so Hull has kept no way to them.
-func TestP2PointsAreNotKept(t *testing.T) {
+// Lists that nobody else holds are given free, so no call has kept a way to them.
+func TestP2NothingIsKept(t *testing.T) {
 	for _, list := range samples() {
-		trace := handIn(list)
+		ofPoints, ofTriangles := handIn(list)
 		for range 20 {
 			runtime.GC()
-			if trace.Value() == nil {
+			if ofPoints.Value() == nil && ofTriangles.Value() == nil {
 				break
 			}
 		}
-		if trace.Value() != nil {
-			t.Fatalf("Hull has kept the list of %v", list)
+		if ofPoints.Value() != nil || ofTriangles.Value() != nil {
+			t.Fatalf("a list was kept, of the points %v", list)
 		}
 	}
 }
 
-func handIn(list []api.Point) weak.Pointer[api.Point] {
+func handIn(list []api.Point) (weak.Pointer[api.Point], weak.Pointer[api.Triangle]) {
 	own := slices.Clone(list)
+	triangles := trianglesOver(list)
 	triskel.Hull(own)
-	return weak.Make(&own[0])
+	triskel.Triangles(own)
+	triskel.Locate(own, triangles, own[0])
+	return weak.Make(&own[0]), weak.Make(&triangles[0])
 }

@@ -2,8 +2,11 @@
 package triskel
 
 import (
+	"slices"
+
 	"triskel/api"
 	"triskel/hull"
+	"triskel/mesh"
 	"triskel/plane"
 )
 
@@ -16,10 +19,22 @@ func Hull(points []api.Point) ([]int, api.Errno) {
 }
 
 // Triangles joins points to triangles (P4).
-func Triangles(points []api.Point) ([]api.Triangle, api.Errno) { return nil, api.OK }
+func Triangles(points []api.Point) ([]api.Triangle, api.Errno) {
+	if e := refusal(points); e != api.OK {
+		return nil, e
+	}
+	m := mesh.New(plane.Places(points))
+	m.Round()
+	return m.Triangles(), api.OK
+}
 
 // Bound joins points to triangles that have lines among their sides (P5).
 func Bound(points []api.Point, lines []api.Line) ([]api.Triangle, api.Errno) { return nil, api.OK }
 
 // Locate finds the triangle in which a point lies (P6).
-func Locate(points []api.Point, triangles []api.Triangle, p api.Point) int { return 0 }
+func Locate(points []api.Point, triangles []api.Triangle, p api.Point) int {
+	if !plane.InBounds(p) {
+		return -1
+	}
+	return slices.IndexFunc(triangles, func(t api.Triangle) bool { return liesIn(points, t, p) })
+}
