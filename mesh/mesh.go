@@ -19,10 +19,17 @@ func (s side) back() side {
 	return side{s.to, s.from}
 }
 
-// Mesh knows its triangles by their sides: for each side the corner that lies across from it.
+// upward gives the side from its lesser number to the greater, so that it is the same one either way round.
+func (s side) upward() side {
+	return side{min(s.from, s.to), max(s.from, s.to)}
+}
+
+// Mesh knows its triangles by their sides: for each side the corner that lies across from it. The sides that are lines
+// stay as they are, each of them upward.
 type Mesh struct {
 	places []complex128
 	across map[side]int
+	lines  []side
 }
 
 // New fills the hull with triangles, though not with round ones. The places must be different ones and not all on one
@@ -31,7 +38,7 @@ type Mesh struct {
 // The walk through all places from left to right parts the hull in what lies below it and what lies above it: the
 // triangles of the two can't be in each other's way.
 func New(places []complex128) *Mesh {
-	m := &Mesh{places, make(map[side]int)}
+	m := &Mesh{places: places, across: make(map[side]int)}
 	order := plane.Rightward(places)
 	m.fillRight(order)
 	slices.Reverse(order)

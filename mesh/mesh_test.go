@@ -110,3 +110,78 @@ func TestRoundLooksAgain(t *testing.T) {
 		}
 	}
 }
+
+func TestDraw(t *testing.T) {
+	kite := []complex128{0, 6, 3 + 1i, 3 - 1i}
+	for _, lines := range [][]api.Line{{{A: 0, B: 1}}, {{A: 1, B: 0}}, {{A: 0, B: 1}, {A: 0, B: 2}, {A: 1, B: 0}}} {
+		m := New(kite)
+		m.Draw(lines)
+		want := []api.Triangle{{A: 0, B: 1, C: 2}, {A: 0, B: 3, C: 1}}
+		if got := m.Triangles(); !slices.Equal(got, want) {
+			t.Errorf("with %v: %v, want %v", lines, got, want)
+		}
+		m.Round()
+		if got := m.Triangles(); !slices.Equal(got, want) {
+			t.Errorf("with %v, rounded: %v, want %v", lines, got, want)
+		}
+	}
+}
+
+// What is a side already is left as it is, and stays.
+func TestDrawWhatIsThere(t *testing.T) {
+	m := New([]complex128{0, 6 + 1i, 7, 4 - 1i})
+	m.turnOver(side{1, 3})
+	before := m.Triangles()
+	m.Draw([]api.Line{{A: 2, B: 0}, {A: 0, B: 1}})
+	if got := m.Triangles(); !slices.Equal(got, before) {
+		t.Errorf("drawn: %v became %v", before, got)
+	}
+	if m.isPointed(side{0, 2}) || m.isPointed(side{2, 0}) {
+		t.Error("a line is not to be turned over")
+	}
+	m.Round()
+	if got := m.Triangles(); !slices.Equal(got, before) {
+		t.Errorf("rounded: %v became %v", before, got)
+	}
+}
+
+// No side at all gets out of the line's way by one change, and at some of them a change would make a dent.
+func TestDrawThroughTeeth(t *testing.T) {
+	places := []complex128{0, 100, 20 + 2i, 30 - 8i, 50 + 40i, 60 - 40i, 80 + 3i, 90 - 9i}
+	m := New(places)
+	m.Draw([]api.Line{{A: 0, B: 1}})
+	if !m.isBetween(side{0, 1}) {
+		t.Errorf("the line is no side of %v", m.Triangles())
+	}
+	for s := range m.across {
+		from, to := places[s.from], places[s.to]
+		if imag(from)*imag(to) < 0 {
+			t.Errorf("the side %v crosses the line", s)
+		}
+	}
+}
+
+// Of places on one circle each side is round: the lines' order, and which way round they are, must not choose one.
+func TestDrawInAnyOrder(t *testing.T) {
+	places := []complex128{5, 4 + 3i, 3 + 4i, 5i, -3 + 4i, -4 + 3i, -5, -4 - 3i, -3 - 4i, -5i, 3 - 4i, 4 - 3i}
+	lines := []api.Line{{A: 0, B: 5}, {A: 11, B: 6}, {A: 1, B: 4}, {A: 10, B: 7}}
+	drawn := func() []api.Triangle {
+		m := New(places)
+		m.Draw(lines)
+		m.Round()
+		return m.Triangles()
+	}
+	first := drawn()
+	for i := range lines {
+		for j := range lines {
+			lines[i], lines[j] = api.Line{A: lines[j].B, B: lines[j].A}, lines[i]
+			own := slices.Clone(lines)
+			if got := drawn(); !slices.Equal(got, first) {
+				t.Errorf("with %v: %v, and %v before", own, got, first)
+			}
+			if !slices.Equal(lines, own) {
+				t.Errorf("lines written into: %v became %v", own, lines)
+			}
+		}
+	}
+}

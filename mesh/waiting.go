@@ -9,9 +9,9 @@ import (
 // they come out is that of their names alone, whatever the order in which they came in.
 type waiting []side
 
-// add lets a side wait, from its lesser number to the greater: either way round it is the same one to look at.
+// add lets a side wait upward: either way round it is the same one to look at.
 func (w *waiting) add(s side) {
-	heap.Push(w, side{min(s.from, s.to), max(s.from, s.to)})
+	heap.Push(w, s.upward())
 }
 
 // next takes out the side with the least names. There must be one.

@@ -1,4 +1,4 @@
-// Package plane: points as complex numbers, how they turn, and what lies within a circle.
+// Package plane: points as complex numbers, how they turn, what lies within a circle, and what is in a line's way.
 package plane
 
 import (
@@ -48,19 +48,32 @@ func Rightward(places []complex128) []int {
 // Turn is above 0, if a, b, c turn left, below 0, if right, 0, if they lie on one line.
 // In bounds no part of the product is above 2 * (2 * MaxPlace)^2, so nothing is rounded.
 func Turn(a, b, c complex128) float64 {
-	return cross(b-a, c-a)
+	return imag(conjugate(b-a) * (c - a))
 }
 
-// Within tells whether d lies within the circle through a, b, c, which must turn left. The document's sum is here put in
-// order by the squares of the ways from d. In bounds it stays below 3 * (2 * (2 * MaxPlace)^2)^2, so nothing is rounded.
+// Cross tells whether the lines between a and b and between c and d cross where neither ends.
+func Cross(a, b, c, d complex128) bool {
+	return Turn(a, b, c)*Turn(a, b, d) < 0 && Turn(c, d, a)*Turn(c, d, b) < 0
+}
+
+// Between tells whether p lies on the line between a and b and is neither of them: both are then in opposite directions
+// from it.
+func Between(a, b, p complex128) bool {
+	return Turn(a, b, p) == 0 && real(conjugate(a-p)*(b-p)) < 0
+}
+
+// Within tells whether d lies within the circle through a, b, c, which must turn left: whether it lies below them, if
+// each place is lifted by the square of its way from d. The document's sum is that of Below, in another order.
 func Within(a, b, c, d complex128) bool {
-	a, b, c = a-d, b-d, c-d
-	return square(a)*cross(b, c)+square(b)*cross(c, a)+square(c)*cross(a, b) > 0
+	return Below(a, b, c, d, func(p complex128) float64 { return square(p - d) })
 }
 
-// cross is twice the area between two ways that begin at one place, above 0, if the second lies to the left.
-func cross(v, w complex128) float64 {
-	return imag(conjugate(v) * w)
+// Below tells whether d lies below the plane through a, b, c, which must turn left, if each place is lifted to its
+// height. In bounds, with whole heights that are no further apart than 2 * (2 * MaxPlace)^2, the sum stays below
+// 3 * (2 * (2 * MaxPlace)^2)^2, so nothing is rounded.
+func Below(a, b, c, d complex128, height func(complex128) float64) bool {
+	ground := height(d)
+	return (height(a)-ground)*Turn(d, b, c)+(height(b)-ground)*Turn(d, c, a)+(height(c)-ground)*Turn(d, a, b) > 0
 }
 
 // square is that of a way's length.

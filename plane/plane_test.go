@@ -86,6 +86,85 @@ func wantWithin(t *testing.T, a, b, c, d api.Point, want bool) {
 	}
 }
 
+// Lines cross only where neither ends, however each of them, and the two, are told.
+func TestCross(t *testing.T) {
+	for _, c := range []struct {
+		a, b, c, d complex128
+		want       bool
+	}{
+		{0, 4 + 4i, 4, 4i, true},
+		{-1000 - 1000i, 1000 + 999i, -1000 + 1000i, 1000 - 1000i, true},
+		{-1000, 1000, -1i, 1i, true},
+		// One ends on the other, or where it ends.
+		{0, 4, 2, 2 + 2i, false},
+		{0, 4, 4, 4 + 4i, false},
+		{0, 4, 0, 4, false},
+		// On one straight way, apart and on one another.
+		{0, 1, 2, 3, false},
+		{0, 2, 1, 3, false},
+		{0, 3, 1, 2, false},
+		// Beside one another, and such that only the one would be met, if it were longer.
+		{0, 4, 1i, 4 + 1i, false},
+		{0, 4, 2 + 1i, 2 + 9i, false},
+		{0, 4, 5 - 1i, 5 + 1i, false},
+		{-1000 - 1000i, 1000 + 999i, 0, -1000 + 1000i, false},
+	} {
+		for _, l := range [][4]complex128{{c.a, c.b, c.c, c.d}, {c.b, c.a, c.c, c.d}, {c.a, c.b, c.d, c.c}, {c.c, c.d, c.a, c.b}, {c.d, c.c, c.b, c.a}} {
+			if got := Cross(l[0], l[1], l[2], l[3]); got != c.want {
+				t.Errorf("Cross(%v) = %v", l, got)
+			}
+		}
+	}
+}
+
+func TestBetween(t *testing.T) {
+	for _, c := range []struct {
+		a, b, p complex128
+		want    bool
+	}{
+		{0, 4, 2, true}, {0, 4, 1, true}, {0, 4i, 3i, true}, {-2 + 1i, 4 - 2i, 0, true},
+		{-1000 - 1000i, 1000 + 1000i, 999 + 999i, true},
+		{-1000 - 1000i, 1000 + 999i, -999 - 999i, false},
+		{0, 4, 0, false}, {0, 4, 4, false}, {0, 4, 5, false}, {0, 4, -1, false}, {0, 4i, 5i, false},
+		{0, 4, 2 + 1i, false}, {0, 4, 2 - 1i, false}, {0, 4 + 4i, 4, false},
+	} {
+		if Between(c.a, c.b, c.p) != c.want || Between(c.b, c.a, c.p) != c.want {
+			t.Errorf("Between(%v, %v, %v) is not %v", c.a, c.b, c.p, c.want)
+		}
+	}
+}
+
+// Below asks how the four lie in height: on a slope none is below the others, wherever it lies and however steep.
+func TestBelow(t *testing.T) {
+	bowl := func(p complex128) float64 { return math.Abs(real(p)) }
+	hill := func(p complex128) float64 { return -math.Abs(real(p)) }
+	slope := func(p complex128) float64 { return 700 - 3*real(p) + 5*imag(p) }
+	for _, c := range []struct {
+		a, b, c, d complex128
+		height     func(complex128) float64
+		want       bool
+	}{
+		{-2, 2, 3i, 1i, bowl, true},
+		{-2, 2, 3i, 1i, hill, false},
+		{-2, 2, 3i, 1i, slope, false},
+		{-2, 2, 3i, -9 - 9i, slope, false},
+		// Across the side from -2 to 2 at 0: the way from 3i to -3i lies lower, and if that is the side, the other one higher.
+		{-2, 2, 3i, -3i, bowl, true},
+		{-3i, 3i, -2, 2, bowl, false},
+		{-2, 2, 3i, -3i, hill, false},
+		{-3i, 3i, -2, 2, hill, true},
+		// All on one side of the bowl's fold: a slope.
+		{1, 5, 2 + 2i, 3 + 1i, bowl, false},
+		{-1000, 1000, 1000i, -1000i, bowl, true},
+		{-1000, 1000, 1000i, 999i, bowl, true},
+		{-1000, 1000, 1000i, 1000 + 999i, bowl, false},
+	} {
+		if got := Below(c.a, c.b, c.c, c.d, c.height); got != c.want {
+			t.Errorf("Below(%v, %v, %v, %v) = %v", c.a, c.b, c.c, c.d, got)
+		}
+	}
+}
+
 func TestRightward(t *testing.T) {
 	places := []complex128{2, 1 + 1i, -1000i, 1 - 1i, -3 + 5i, 1}
 	own := slices.Clone(places)

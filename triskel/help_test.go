@@ -27,6 +27,15 @@ func threes(numbers ...int) []api.Triangle {
 	return list
 }
 
+// pairs: lines, two numbers each.
+func pairs(numbers ...int) []api.Line {
+	var list []api.Line
+	for i := 0; i < len(numbers); i += 2 {
+		list = append(list, api.Line{A: numbers[i], B: numbers[i+1]})
+	}
+	return list
+}
+
 // turn: the document's words, in whole numbers.
 func turn(a, b, c api.Point) int {
 	return (b.X-a.X)*(c.Y-a.Y) - (b.Y-a.Y)*(c.X-a.X)
@@ -103,12 +112,18 @@ func isFlat(list []api.Point) bool {
 // wantErrno asks the calls that have the errors of Hull.
 func wantErrno(t *testing.T, list []api.Point, want api.Errno) {
 	t.Helper()
-	corners, e := triskel.Hull(list)
-	if e != want || want != api.OK && len(corners) > 0 {
-		t.Errorf("Hull of %d points %v: %v, error %d, want %d", len(list), list[:min(len(list), 9)], corners, e, want)
-	}
-	triangles, e := triskel.Triangles(list)
-	if e != want || want != api.OK && len(triangles) > 0 {
-		t.Errorf("Triangles of %d points %v: %v, error %d, want %d", len(list), list[:min(len(list), 9)], triangles, e, want)
+	checkErrno(t, "Hull", triskel.Hull, list, want)
+	checkErrno(t, "Triangles", triskel.Triangles, list, want)
+	checkErrno(t, "Bound without lines", boundByNone, list, want)
+}
+
+func boundByNone(list []api.Point) ([]api.Triangle, api.Errno) {
+	return triskel.Bound(list, nil)
+}
+
+func checkErrno[E any](t *testing.T, name string, call func([]api.Point) ([]E, api.Errno), list []api.Point, want api.Errno) {
+	t.Helper()
+	if got, e := call(list); e != want || want != api.OK && len(got) > 0 {
+		t.Errorf("%s of %d points %v: %v, error %d, want %d", name, len(list), list[:min(len(list), 9)], got, e, want)
 	}
 }

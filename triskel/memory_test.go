@@ -50,9 +50,21 @@ func trianglesOver(list []api.Point) []api.Triangle {
 	return triangles
 }
 
+// bound: Bound as a call that has points alone: with lines over all of them.
+func bound(list []api.Point) ([]api.Triangle, api.Errno) {
+	return triskel.Bound(list, linesOver(list))
+}
+
+// linesOver: lines that are not refused, if the points aren't.
+func linesOver(list []api.Point) []api.Line {
+	d := dice(13)
+	return d.freeLines(list, api.MaxLines)
+}
+
 func TestP2SameAnswerEachTime(t *testing.T) {
 	t.Run("Hull", func(t *testing.T) { checkSameEachTime(t, triskel.Hull) })
 	t.Run("Triangles", func(t *testing.T) { checkSameEachTime(t, triskel.Triangles) })
+	t.Run("Bound", func(t *testing.T) { checkSameEachTime(t, bound) })
 	t.Run("Locate", func(t *testing.T) { checkSameEachTime(t, located) })
 }
 
@@ -73,6 +85,7 @@ func checkSameEachTime[E comparable](t *testing.T, call func([]api.Point) ([]E, 
 func TestP2SameAnswerSideBySide(t *testing.T) {
 	t.Run("Hull", func(t *testing.T) { checkSideBySide(t, triskel.Hull) })
 	t.Run("Triangles", func(t *testing.T) { checkSideBySide(t, triskel.Triangles) })
+	t.Run("Bound", func(t *testing.T) { checkSideBySide(t, bound) })
 	t.Run("Locate", func(t *testing.T) { checkSideBySide(t, located) })
 }
 
@@ -99,9 +112,11 @@ func TestP2NothingIsWrittenInto(t *testing.T) {
 		whole := slices.Concat(points(901, 902), list, points(903, 904, 905, 906))
 		piece := whole[1 : 1+len(list)]
 		triangles := slices.Concat(threes(7, 8, 9), trianglesOver(list), threes(4, 5, 6))
-		ownPoints, ownTriangles := slices.Clone(whole), slices.Clone(triangles)
+		lines := slices.Concat(pairs(9, 8), linesOver(list), pairs(7, 6, 5, 4))
+		ownPoints, ownTriangles, ownLines := slices.Clone(whole), slices.Clone(triangles), slices.Clone(lines)
 		triskel.Hull(piece)
 		triskel.Triangles(piece)
+		triskel.Bound(piece, lines[1:len(lines)-2])
 		for _, p := range list {
 			triskel.Locate(piece, triangles[1:len(triangles)-1], p)
 		}
@@ -111,6 +126,9 @@ func TestP2NothingIsWrittenInto(t *testing.T) {
 		if !slices.Equal(triangles, ownTriangles) {
 			t.Errorf("triangles written into: %v became %v", ownTriangles, triangles)
 		}
+		if !slices.Equal(lines, ownLines) {
+			t.Errorf("lines written into: %v became %v", ownLines, lines)
+		}
 	}
 }
 
@@ -118,6 +136,7 @@ func TestP2NothingIsWrittenInto(t *testing.T) {
 func TestP2AnswersAreNewMemory(t *testing.T) {
 	t.Run("Hull", func(t *testing.T) { checkNewMemory(t, triskel.Hull, -7) })
 	t.Run("Triangles", func(t *testing.T) { checkNewMemory(t, triskel.Triangles, api.Triangle{A: -7, B: -8, C: -9}) })
+	t.Run("Bound", func(t *testing.T) { checkNewMemory(t, bound, api.Triangle{A: -7, B: -8, C: -9}) })
 }
 
 func checkNewMemory[E comparable](t *testing.T, call func([]api.Point) ([]E, api.Errno), other E) {
@@ -150,24 +169,26 @@ func overwrite[E any](list []E, other E) {
 // Lists that nobody else holds are given free, so no call has kept a way to them.
 func TestP2NothingIsKept(t *testing.T) {
 	for _, list := range samples() {
-		ofPoints, ofTriangles := handIn(list)
+		isHeld := handIn(list)
 		for range 20 {
 			runtime.GC()
-			if ofPoints.Value() == nil && ofTriangles.Value() == nil {
+			if !isHeld() {
 				break
 			}
 		}
-		if ofPoints.Value() != nil || ofTriangles.Value() != nil {
+		if isHeld() {
 			t.Fatalf("a list was kept, of the points %v", list)
 		}
 	}
 }
 
-func handIn(list []api.Point) (weak.Pointer[api.Point], weak.Pointer[api.Triangle]) {
-	own := slices.Clone(list)
-	triangles := trianglesOver(list)
+// handIn calls with lists of its own, and gives what tells whether any of them is still held.
+func handIn(list []api.Point) (isHeld func() bool) {
+	own, triangles, lines := slices.Clone(list), trianglesOver(list), linesOver(list)
 	triskel.Hull(own)
 	triskel.Triangles(own)
+	triskel.Bound(own, lines)
 	triskel.Locate(own, triangles, own[0])
-	return weak.Make(&own[0]), weak.Make(&triangles[0])
+	ofPoints, ofTriangles, ofLines := weak.Make(&own[0]), weak.Make(&triangles[0]), weak.Make(&lines[0])
+	return func() bool { return ofPoints.Value() != nil || ofTriangles.Value() != nil || ofLines.Value() != nil }
 }

@@ -9,8 +9,9 @@ import (
 	"triskel/triskel"
 )
 
-// P7: of n points, h of them on the border, there are 2 n - h - 2 triangles.
+// P7: of n points, h of them on the border, there are 2 n - h - 2 triangles, with lines too.
 func TestP7Count(t *testing.T) {
+	d := dice(19)
 	for list, got := range joined(9) {
 		h := 0
 		for i := range list {
@@ -20,6 +21,22 @@ func TestP7Count(t *testing.T) {
 		}
 		if len(got) != 2*len(list)-h-2 {
 			t.Fatalf("Triangles(%v) = %v: %d of %d points on the border", list, got, h, len(list))
+		}
+		lines := d.freeLines(list, 5)
+		if got, _ := triskel.Bound(list, lines); len(got) != 2*len(list)-h-2 {
+			t.Fatalf("Bound(%v, %v) = %v: %d of %d points on the border", list, lines, got, h, len(list))
+		}
+	}
+}
+
+// P7: without lines Bound gives triangles as Triangles must.
+func TestP7WithoutLines(t *testing.T) {
+	for list := range joined(20) {
+		for _, none := range [][]api.Line{nil, {}} {
+			got, e := triskel.Bound(list, none)
+			if what := wrongTriangles(list, got); e != api.OK || what != "" {
+				t.Fatalf("Bound(%v, nil) = %v, %d: %s", list, got, e, what)
+			}
 		}
 	}
 }
@@ -78,24 +95,35 @@ func nearest(list []api.Point, i int) (at int, only bool) {
 }
 
 // P7: if no four points lie on one circle, there is only one answer, in whatever order the points are handed in, and
-// wherever they are moved together.
+// wherever they are moved together. With lines it is the same, whatever their order.
 func TestP7OnlyOneAnswer(t *testing.T) {
 	d := dice(11)
 	for count := 3; count <= 20; count++ {
 		for _, reach := range []int{20, 300} {
-			list := d.scatterOffCircles(count, reach)
-			first, e := triskel.Triangles(list)
-			if e != api.OK {
-				continue
+			if list := d.scatterOffCircles(count, reach); !isFlat(list) {
+				d.checkOnlyOneAnswer(t, unbound, list, nil)
+				d.checkOnlyOneAnswer(t, triskel.Bound, list, d.freeLines(list, 1))
+				d.checkOnlyOneAnswer(t, triskel.Bound, list, d.freeLines(list, api.MaxLines))
 			}
-			for range 10 {
-				order := d.order(count)
-				moved := move(list, order, d.below(1401)-700, d.below(1401)-700)
-				got, e := triskel.Triangles(moved)
-				if named := rename(got, order); e != api.OK || !slices.Equal(named, first) {
-					t.Fatalf("Triangles(%v) = %v, %d, and %v of %v", moved, got, e, first, list)
-				}
-			}
+		}
+	}
+}
+
+// unbound: Triangles as a call that has lines.
+func unbound(list []api.Point, _ []api.Line) ([]api.Triangle, api.Errno) {
+	return triskel.Triangles(list)
+}
+
+func (d *dice) checkOnlyOneAnswer(t *testing.T, call func([]api.Point, []api.Line) ([]api.Triangle, api.Errno), list []api.Point, lines []api.Line) {
+	t.Helper()
+	first, _ := call(list, lines)
+	for range 10 {
+		order := d.order(len(list))
+		moved := move(list, order, d.below(1401)-700, d.below(1401)-700)
+		others := d.moveLines(lines, order)
+		got, e := call(moved, others)
+		if named := rename(got, order); e != api.OK || !slices.Equal(named, first) {
+			t.Fatalf("of %v, %v: %v, %d, and %v of %v, %v", moved, others, got, e, first, list, lines)
 		}
 	}
 }
@@ -154,6 +182,18 @@ func move(list []api.Point, order []int, x, y int) []api.Point {
 	var moved []api.Point
 	for _, i := range order {
 		moved = append(moved, api.Point{X: list[i].X + x, Y: list[i].Y + y})
+	}
+	return moved
+}
+
+// moveLines gives lines by the names that the points have in an order, some of them the other way round, in an order of
+// their own.
+func (d *dice) moveLines(lines []api.Line, order []int) []api.Line {
+	var moved []api.Line
+	for _, i := range d.order(len(lines)) {
+		ends := []int{slices.Index(order, lines[i].A), slices.Index(order, lines[i].B)}
+		from := d.below(2)
+		moved = append(moved, api.Line{A: ends[from], B: ends[1-from]})
 	}
 	return moved
 }

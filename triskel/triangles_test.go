@@ -44,6 +44,16 @@ func TestP4NearlyOnOneCircle(t *testing.T) {
 
 // Many points on one circle: there are several answers, and each that is given must hold.
 func TestP4OnOneCircle(t *testing.T) {
+	ring := onOneCircle()
+	for count := 3; count <= api.MaxPoints; count++ {
+		checkTriangles(t, ring[:count])
+		checkTriangles(t, slices.Concat(points(0, 0), ring[:count-1]))
+		checkTriangles(t, slices.Concat(ring[len(ring)-count+2:], points(1, 1, 0, -1)))
+	}
+}
+
+// onOneCircle: more points than are taken, by rising X, then Y.
+func onOneCircle() []api.Point {
 	var ring []api.Point
 	for x := -75; x <= 75; x++ {
 		for y := -75; y <= 75; y++ {
@@ -52,14 +62,7 @@ func TestP4OnOneCircle(t *testing.T) {
 			}
 		}
 	}
-	if len(ring) < api.MaxPoints {
-		t.Fatalf("%d points on the circle", len(ring))
-	}
-	for count := 3; count <= api.MaxPoints; count++ {
-		checkTriangles(t, ring[:count])
-		checkTriangles(t, slices.Concat(points(0, 0), ring[:count-1]))
-		checkTriangles(t, slices.Concat(ring[len(ring)-count+2:], points(1, 1, 0, -1)))
-	}
+	return ring
 }
 
 // Points of which hardly any is seen at first from where it belongs: many sides must be changed.
@@ -93,6 +96,7 @@ func wantTriangles(t *testing.T, list []api.Point, want []api.Triangle) {
 	if got, e := triskel.Triangles(list); !slices.Equal(got, want) || e != api.OK {
 		t.Errorf("Triangles(%v) = %v, %d, want %v", list, got, e, want)
 	}
+	wantBound(t, list, nil, want)
 }
 
 // checkTriangles holds Triangles against the document's words, for different points in bounds.
@@ -103,14 +107,14 @@ func checkTriangles(t *testing.T, list []api.Point) {
 		return
 	}
 	got, e := triskel.Triangles(list)
-	if e != api.OK {
-		t.Fatalf("Triangles(%v): error %d", list, e)
+	if what := wrongTriangles(list, got); e != api.OK || what != "" {
+		t.Fatalf("Triangles(%v) = %v, %d: %s", list, got, e, what)
 	}
-	for _, what := range []string{wrongTriangle(list, got), wrongFill(list, got), wrongCircle(list, got)} {
-		if what != "" {
-			t.Fatalf("Triangles(%v) = %v: %s", list, got, what)
-		}
-	}
+}
+
+// wrongTriangles: P4, all of it.
+func wrongTriangles(list []api.Point, triangles []api.Triangle) string {
+	return cmp.Or(wrongTriangle(list, triangles), wrongFill(list, triangles), wrongCircle(list, triangles))
 }
 
 // wrongTriangle: P4 (a), and the order.

@@ -18,18 +18,24 @@ func Hull(points []api.Point) ([]int, api.Errno) {
 	return hull.Corners(plane.Places(points)), api.OK
 }
 
-// Triangles joins points to triangles (P4).
+// Triangles joins points to triangles (P4): those that no line binds (P7).
 func Triangles(points []api.Point) ([]api.Triangle, api.Errno) {
-	if e := refusal(points); e != api.OK {
-		return nil, e
-	}
-	m := mesh.New(plane.Places(points))
-	m.Round()
-	return m.Triangles(), api.OK
+	return Bound(points, nil)
 }
 
 // Bound joins points to triangles that have lines among their sides (P5).
-func Bound(points []api.Point, lines []api.Line) ([]api.Triangle, api.Errno) { return nil, api.OK }
+func Bound(points []api.Point, lines []api.Line) ([]api.Triangle, api.Errno) {
+	if e := refusal(points); e != api.OK {
+		return nil, e
+	}
+	if e := lineRefusal(points, lines); e != api.OK {
+		return nil, e
+	}
+	m := mesh.New(plane.Places(points))
+	m.Draw(lines)
+	m.Round()
+	return m.Triangles(), api.OK
+}
 
 // Locate finds the triangle in which a point lies (P6).
 func Locate(points []api.Point, triangles []api.Triangle, p api.Point) int {
